@@ -1,0 +1,1 @@
+"""Finestairs: fines that grow in stairs, and what holds for all calendars."""

@@ -1,0 +1,70 @@
+"""The interface: each name in its file, with the parameters as the points call them."""
+
+import importlib
+import inspect
+import unittest
+
+from tests.test_errors import NAMES
+
+FUNCTIONS = {"fines": {"fine": ["text"]}}
+METHODS = {
+    ("stairs", "Stairs"): {
+        "__init__": ["self", "pieces"], "moved": ["self", "days"], "held": ["self", "days"],
+        "nowhere_above": ["self", "other"], "first_less": ["self", "other"], "days_of": ["self", "number"],
+    },
+}
+STATIC = {("stairs", "Stairs"): {"of": ["text"]}}
+PROPERTIES = {("stairs", "Stairs"): ["pieces", "text", "top", "bottom", "so_far", "from_here"]}
+OPERATORS = {
+    ("stairs", "Stairs"): [
+        "__getitem__", "__len__", "__repr__", "__eq__", "__add__", "__sub__", "__neg__", "__mul__", "__rmul__",
+        "__or__", "__and__",
+    ],
+}
+
+
+def found(file, name):
+    return getattr(importlib.import_module("finestairs." + file), name)
+
+
+def parameters(function):
+    return list(inspect.signature(function).parameters)
+
+
+class InterfaceTest(unittest.TestCase):
+    def test_errors_are_classes_of_their_file(self):
+        for name in ["FineError", *NAMES]:
+            self.assertEqual(found("errors", name).__module__, "finestairs.errors")
+
+    def test_functions(self):
+        for file, names in FUNCTIONS.items():
+            for name, told in names.items():
+                function = found(file, name)
+                self.assertTrue(inspect.isfunction(function))
+                self.assertEqual(function.__module__, "finestairs." + file)
+                self.assertEqual(parameters(function), told)
+
+    def test_methods_stand_in_the_class_itself(self):
+        for (file, name), methods in METHODS.items():
+            own = found(file, name)
+            self.assertEqual(own.__module__, "finestairs." + file)
+            for method, told in methods.items():
+                self.assertEqual(parameters(vars(own)[method]), told)
+
+    def test_static_methods_stand_in_the_class_itself(self):
+        for (file, name), methods in STATIC.items():
+            for method, told in methods.items():
+                self.assertIsInstance(vars(found(file, name))[method], staticmethod)
+                self.assertEqual(parameters(getattr(found(file, name), method)), told)
+
+    def test_properties_and_operators_stand_in_the_class_itself(self):
+        for (file, name), properties in PROPERTIES.items():
+            for word in properties:
+                self.assertIsInstance(vars(found(file, name))[word], property)
+        for (file, name), operators in OPERATORS.items():
+            for word in operators:
+                self.assertIn(word, vars(found(file, name)))
+
+
+if __name__ == "__main__":
+    unittest.main()
