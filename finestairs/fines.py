@@ -2,6 +2,7 @@
 
 from finestairs.basics import number_of
 from finestairs.errors import BadFine
+from finestairs.shapes import level
 from finestairs.stairs import Stairs
 
 # In which place of the text the parts stand, and how many of them there can be in each place.
@@ -64,19 +65,14 @@ def _changed(asked, part):
     word, number = part[:2]
     if word == "free":
         # No late day costs less than nothing, so ahead of the end of these days there is less.
-        return (asked - _level(asked[number])) | _level(0)
+        return (asked - level(asked[number])) | level(0)
     if word == "back":
-        return _from_day(_level(0), number + 1, asked)
+        return _from_day(level(0), number + 1, asked)
     if word == "top":
-        return asked & _level(number)
+        return asked & level(number)
     if word == "lost":
-        return _from_day(asked, number, _level(part[2]))
+        return _from_day(asked, number, level(part[2]))
     return asked
-
-
-def _level(number):
-    """The same number on all days."""
-    return Stairs(((0, number, 0),))
 
 
 def _from_day(ahead, day, behind):

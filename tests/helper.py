@@ -1,7 +1,10 @@
-"""What the tests share: any values, stairs of all shapes, and numbers day by day."""
+"""What the tests share: any values, stairs of all shapes, numbers day by day, and cases asked day by day."""
 
+import copy
+import itertools
 import random
 
+from finestairs.cases import Case
 from finestairs.errors import BadDay, FineError
 from finestairs.stairs import Stairs
 
@@ -19,7 +22,35 @@ def any_values():
         {}, {0: 0}, {"a": [1, {2: (3, None)}]}, ({},), [{}],
         Stairs(((0, 1, 2),)), (Stairs(((0, 1, 2),)),), [Stairs(((0, 1, 2),))],
         FineError(3), BadDay(("a", [])), deep,
+        Case("kinds plain\nthing a due 0 2 from 1"), (Case("kinds plain\nthing a due 0"),), "plain", "kinds plain",
+        ("a",), ("a", "b"), ("b", "a"), ["a", "b"], (0, "plain"), [0, "plain"], (True, "plain"), ("plain", 0),
+        ((0, "plain"),), ((0, "plain"), (1, "plain")), ([0, "plain"], (1, "plain")), ((1, "plain"), (0, "plain")),
+        "dearest", "row a b", "steepest 3", "steepest 0", ("never", ()), ("row", ("a", "b"), ()), ("alike",), ("most", 0, ()),
     ]
+
+
+def same(value, other):
+    """Whether two values are the same, also in what kinds of values they hold."""
+    if value.__class__ is not other.__class__:
+        return False
+    if isinstance(value, (tuple, list)):
+        return len(value) == len(other) and all(same(one, its) for one, its in zip(value, other))
+    if isinstance(value, dict):
+        return same(list(value.items()), list(other.items()))
+    if isinstance(value, FineError):
+        return same(value.value, other.value)
+    return value == other
+
+
+def refused(test, error, value, deed, *arguments, **named):
+    """That a call raises just this error with this very value, and changes none of its arguments."""
+    ahead = copy.deepcopy((arguments, named))
+    with test.subTest(error=error.__name__, value=value):
+        with test.assertRaises(error) as caught:
+            deed(*arguments, **named)
+        test.assertIs(caught.exception.__class__, error)
+        test.assertIs(caught.exception.value, value)
+        test.assertTrue(same((arguments, named), ahead))
 
 
 def number_on(pieces, day):
@@ -108,3 +139,229 @@ def corners(*rows):
     ascending = sorted(day for day in days if day >= 0)
     middles = {(one + other) // 2 for one, other in zip(ascending, ascending[1:])}
     return sorted(middles | set(ascending))
+
+
+def asked(day, first, rates, top, lost):
+    """What is asked on a late day, counted late day by late day."""
+    if lost is not None and day >= lost[0]:
+        return lost[1]
+    costs = []
+    for late in range(1, day + 1):
+        rate = [cost for cost, begin in rates if begin <= late]
+        costs.append(rate[-1] if rate else 0)
+    word, number = first or ("free", 0)
+    if word == "free":
+        costs[:number] = [0] * len(costs[:number])
+    whole = 0 if word == "back" and day <= number else sum(costs)
+    return whole if top is None else min(whole, top)
+
+
+def parts_of(text):
+    """The parts of a fine as asked takes them."""
+    first, rates, top, lost = None, [], None, None
+    for words in [part.split(" ") for part in text.split(", ") if part]:
+        if words[0] in ("free", "back"):
+            first = (words[0], int(words[1]))
+        elif words[0] == "top":
+            top = int(words[1])
+        elif words[0] == "lost":
+            lost = (int(words[1]), int(words[2]))
+        else:
+            rates.append((int(words[0]), int(words[2])))
+    return first, rates, top, lost
+
+
+class DayByDay:
+    """A case of which each day is asked by itself, and all visits, rows and calendars of some days are gone through."""
+
+    def __init__(self, text):
+        self.kinds, self.after, self.mercies, self.told, self.known = (), {}, {}, {}, {}
+        for line in text.split("\n"):
+            word, name, *rest = line.split(" ")
+            if word == "kinds":
+                self.kinds = (name, *rest)
+            elif word == "after":
+                self.after[name] = rest
+            elif word == "mercy":
+                self.mercies[name] = rest
+            else:
+                self.told[name] = (rest[0], int(rest[1]), parts_of(" ".join(rest[2:])))
+        self.things = tuple(self.told)
+        self.after = {kind: [other for other in self.kinds if other in self.after.get(kind, [])] for kind in self.kinds}
+
+    def number(self, thing, kind, day):
+        if (thing, kind, day) not in self.known:
+            word, by, parts = self.told[thing]
+            number = asked(day + by if word == "late" else max(0, day - by), *parts)
+            mercy, *many = self.mercies.get(kind, ["less", "0"])
+            if mercy == "none":
+                number = 0
+            elif mercy == "top":
+                number = min(number, int(many[0]))
+            else:
+                number = max(0, number - int(many[0]))
+            self.known[thing, kind, day] = number
+        return self.known[thing, kind, day]
+
+    def pairs(self, days):
+        """All two visits of some days of which the second one can follow the first one."""
+        for one, other in itertools.product(itertools.product(range(days), self.kinds), repeat=2):
+            if one == other or (one[0] < other[0] and other[1] in self.after[one[1]]):
+                yield one, other
+
+    def calendars(self, days, many=None):
+        """All calendars of some days."""
+        if many is None:
+            many = len(self.things)
+        rows = [((day, kind),) for day in range(days) for kind in self.kinds]
+        for _ in range(many - 1):
+            rows = [
+                (*row, visit) for row in rows for visit in itertools.product(range(row[-1][0], days), self.kinds)
+                if visit == row[-1] or (visit[0] > row[-1][0] and visit[1] in self.after[row[-1][1]])
+            ]
+        return rows
+
+    def cost(self, row, calendar):
+        return sum(self.number(thing, kind, day) for thing, (day, kind) in zip(row, calendar))
+
+    def least(self, calendar):
+        return min(self.cost(row, calendar) for row in itertools.permutations(self.things))
+
+    def takes(self, habit, out, day, kind):
+        word, *rest = habit.split(" ")
+        if word == "row":
+            return [thing for thing in rest if thing in out][0]
+        scores = {
+            "dearest": lambda thing: self.number(thing, kind, day),
+            "cheapest": lambda thing: -self.number(thing, kind, day),
+            "steepest": lambda thing: self.number(thing, kind, day + int(rest[0])) - self.number(thing, kind, day),
+        }
+        best = max(map(scores[word], out))
+        return [thing for thing in self.things if thing in out and scores[word](thing) == best][0]
+
+    def spent(self, habit, calendar):
+        row = []
+        for day, kind in calendar:
+            row.append(self.takes(habit, [thing for thing in self.things if thing not in row], day, kind))
+        return self.cost(row, calendar), tuple(row)
+
+    def lost(self, habit, calendar):
+        return self.spent(habit, calendar)[0] - self.least(calendar)
+
+    def saved(self, thing, days):
+        """The most that the second one of two visits asks less."""
+        return max(self.number(thing, one[1], one[0]) - self.number(thing, its[1], its[0]) for one, its in self.pairs(days))
+
+    def can_go_ahead(self, one, other, days):
+        return all(self.cost((one, other), pair) <= self.cost((other, one), pair) for pair in self.pairs(days))
+
+    def outs(self):
+        """All things that can be out."""
+        for many in range(1, len(self.things) + 1):
+            yield from itertools.combinations(self.things, many)
+
+    def most_lost(self, habit, days):
+        """The most that is lost, day by day from the last one on: by what the habit and a row leave out."""
+        known = {((), (), day, kind): 0 for day in range(days) for kind in self.kinds}
+        for out, day in itertools.product(self.outs(), reversed(range(days))):
+            for kind in self.kinds:
+                taken = self.takes(habit, out, day, kind)
+                rest = tuple(thing for thing in out if thing != taken)
+                for left in itertools.combinations(self.things, len(out)):
+                    rows = []
+                    for thing in left:
+                        others = tuple(one for one in left if one != thing)
+                        then = [known[rest, others, day, kind]]
+                        if day + 1 < days:
+                            then += [known["from", rest, others, day + 1, other] for other in self.after[kind] if rest]
+                        rows.append(max(then) - self.number(thing, kind, day))
+                    known[out, left, day, kind] = max(rows) + self.number(taken, kind, day)
+                    known["from", out, left, day, kind] = max(
+                        known[out, left, day, kind], known.get(("from", out, left, day + 1, kind), -10 ** 9),
+                    )
+        return max(known["from", self.things, self.things, 0, kind] for kind in self.kinds)
+
+
+def moved(calendar, number, days):
+    """The calendar with this visit, and all behind it, so many days later."""
+    return (*calendar[:number], *[(day + days, kind) for day, kind in calendar[number:]])
+
+
+def made_after(chance, kinds):
+    """Lines after by chance, with each kind that they must tell."""
+    dense = chance.choice((0.15, 0.4, 0.9))
+    found = {pair for pair in itertools.product(kinds, repeat=2) if chance.random() < dense}
+    for middle, one, other in itertools.product(kinds, repeat=3):
+        if (one, middle) in found and (middle, other) in found:
+            found.add((one, other))
+    lines = []
+    for kind in chance.sample(kinds, len(kinds)):
+        behind = [other for other in chance.sample(kinds, len(kinds)) if (kind, other) in found]
+        if behind:
+            lines.append(" ".join(["after", kind, *behind]))
+    return lines
+
+
+def made_fine(chance, capped):
+    """The text of a small fine by chance; one that is capped does not rise without end."""
+    parts, begin = [], 0
+    if chance.random() < 0.5:
+        parts.append(chance.choice(("free", "back")) + " " + str(chance.randint(0, 3)))
+    for _ in range(chance.choice((0, 1, 1, 2, 2, 3))):
+        begin += chance.randint(1, 2)
+        parts.append(str(chance.randint(0, 4)) + " from " + str(begin))
+    topped = chance.random() < (0.5 if capped else 0.1)
+    if topped:
+        parts.append("top " + str(chance.randint(0, 12)))
+    if capped and not topped or chance.random() < 0.2:
+        parts.append("lost " + str(chance.randint(1, 5)) + " " + str(chance.randint(0, 15)))
+    return ", ".join(parts)
+
+
+def made_case(chance, kinds, things):
+    """The text of a small case by chance, with so many kinds and things."""
+    names = chance.sample(["p", "q", "r", "s"], kinds)
+    lines = [" ".join(["kinds", *names]), *made_after(chance, names)]
+    for kind in chance.sample(names, kinds):
+        mercy = chance.choice(("none", "top ", "less ", "", ""))
+        if mercy:
+            many = "" if mercy == "none" else str(chance.randint(0, 8))
+            lines.append("mercy " + kind + " " + mercy + many)
+    capped = chance.random() < 0.6
+    for thing in chance.sample(["w", "x", "y", "z"], things):
+        line = " ".join(["thing", thing, chance.choice(("due", "late")), str(chance.randint(0, 3))])
+        text = made_fine(chance, capped)
+        lines.append(line + " " + text if text else line)
+    return "\n".join(lines)
+
+
+def made_cases(many, seed):
+    """Texts of small cases by chance, with one to four kinds and things, always the same ones."""
+    chance = random.Random(seed)
+    shapes = itertools.cycle(itertools.product((1, 2, 3, 4), repeat=2))
+    return [made_case(chance, *shape) for shape in itertools.islice(shapes, many)]
+
+
+def edge_cases():
+    """Texts of cases at the edges that are told of."""
+    return [
+        "kinds p\nthing w due 0",
+        "kinds p\nthing w due 0 2 from 1\nthing x due 1 3 from 1",
+        "kinds p q\nafter p q\nthing w due 0 2 from 1\nthing x due 1 3 from 1",
+        "kinds p q\nafter p q\nmercy q none\nthing w due 0 2 from 1\nthing x due 0 2 from 1, top 3",
+        "kinds p q\nafter q p q\nmercy p top 4\nthing w due 0 2 from 1, top 9\nthing x late 3 1 from 1, lost 6 2",
+        "kinds p\nafter p p\nthing w due 0 2 from 1, top 9\nthing x due 0 2 from 1, top 9\nthing y due 0 2 from 1, top 9",
+        "kinds p\nafter p p\nthing w due 0 1 from 1\nthing x due 0 2 from 1\nthing y late 1 3 from 1",
+        "kinds p q r\nafter p q r\nafter q r\nmercy q less 3\nmercy r none\nthing w due 2 3 from 1\nthing x due 0 1 from 1",
+        "kinds p q r s\nafter p s\nafter q p r s\nafter r s\nmercy s none\nthing w late 4 3 from 2, lost 7 1\nthing x due 3",
+        "kinds p q\nafter p p\nafter q q\nmercy q less 2\nthing w due 4 back 2, 3 from 1, lost 5 1\nthing x due 1 1 from 1",
+        "kinds p\nafter p p\nthing w due 1 4 from 1, lost 4 3\nthing x due 1 3 from 1, lost 3 8\nthing y due 6 lost 1 5",
+        "kinds p q\nafter p p q\nafter q p q\nmercy q none\nthing w due 0 5 from 1, top 5\nthing x due 0 1 from 1",
+    ]
+
+
+def habits_of(case):
+    """Habits of each kind."""
+    names = list(case.things)
+    rows = {" ".join(["row", *row]) for row in (names, names[::-1], names[1:] + names[:1])}
+    return ["dearest", "cheapest", "steepest 1", "steepest 4", *sorted(rows)]

@@ -22,6 +22,41 @@ FINES = """
 ['0 0 0, 3 3 3', '0 0 0, 3 9 3, 6 15 0', '0 0 1, 3 6 4, 6 9 0', '0 0 0']
 """
 
+CASES = r"""
+>>> from finestairs.cases import Case
+>>> case = Case('kinds plain mercy\nafter plain plain mercy\nafter mercy plain mercy\nmercy mercy top 4\nthing a due 0 2 from 1, top 20\nthing b due 3 5 from 1, lost 5 12')
+>>> [case.things, case.after('mercy'), case.bill('b', 'plain').text, case.bill('b', 'mercy').text, case.bill('a', 'plain')[10 ** 20]]
+[('a', 'b'), ('plain', 'mercy'), '0 0 0, 4 5 5, 8 12 0', '0 0 0, 4 4 0', 20]
+"""
+
+LATER = r"""
+>>> from finestairs.later import later, shows_later
+>>> [later(case, 'b')[:2], shows_later(case, 'b', ('saves', 16, (7, 'plain'), (9, 'mercy')))]
+[('saves', 16), True]
+>>> calm = Case('kinds plain mercy\nafter plain plain\nafter mercy plain mercy\nmercy mercy top 4\nthing a due 0 2 from 1, top 20')
+>>> [later(calm, 'a')[0], shows_later(calm, 'a', ('never', (calm.bill('a', 'plain'), calm.bill('a', 'mercy'))))]
+['never', True]
+>>> later(calm.told(4, 'mercy mercy none').told(3, 'after mercy plain mercy').told(2, 'after plain plain mercy').told(5, 'thing a due 0 2 from 1'), 'a')[0]
+'endless'
+"""
+
+RANKS = r"""
+>>> from finestairs.ranks import best, cost, ranked
+>>> [cost(case, ('a', 'b'), ((3, 'plain'), (8, 'mercy'))), best(case, ((3, 'plain'), (8, 'mercy'))), ranked(case)[0]]
+[10, (4, ('b', 'a')), 'none']
+>>> steps = Case('kinds day\nafter day day\nthing a due 0 1 from 1\nthing b due 0 2 from 1\nthing c late 1 3 from 1')
+>>> ranked(steps)[:2]
+('row', ('c', 'b', 'a'))
+"""
+
+HABITS = r"""
+>>> from finestairs.habits import alike, loss, shows_loss, spent, taken
+>>> [taken(case, 'dearest', ('a', 'b'), (5, 'plain')), taken(case, 'steepest 3', ('a', 'b'), (5, 'plain')), spent(case, 'dearest', ((3, 'plain'), (8, 'mercy')))]
+['a', 'a', (10, ('a', 'b'))]
+>>> [loss(steps, 'row c b a')[:2], loss(case, 'row a b')[:2], alike(steps, 'dearest', 'cheapest')[0]]
+[('most', 0), ('most', 12), 'apart']
+"""
+
 
 class ExamplesTest(unittest.TestCase):
     def held(self, text):
@@ -30,6 +65,10 @@ class ExamplesTest(unittest.TestCase):
         told = []
         doctest.DocTestRunner().run(test, out=told.append)
         self.assertEqual("".join(told), "")
+
+    def test_cases_and_all_calendars(self):
+        # The later ones of these examples speak of the cases of the ones ahead.
+        self.held(CASES + LATER + RANKS + HABITS)
 
     def test_stairs(self):
         self.held(STAIRS)

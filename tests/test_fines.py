@@ -7,24 +7,9 @@ import unittest
 from finestairs.errors import BadFine
 from finestairs.fines import fine
 from finestairs.stairs import Stairs
-from tests.helper import any_values, in_one_way
+from tests.helper import any_values, asked, in_one_way
 
 DAYS = 60
-
-
-def asked(day, first, rates, top, lost):
-    """What is asked on a late day, counted late day by late day."""
-    if lost is not None and day >= lost[0]:
-        return lost[1]
-    costs = []
-    for late in range(1, day + 1):
-        rate = [cost for cost, begin in rates if begin <= late]
-        costs.append(rate[-1] if rate else 0)
-    word, number = first or ("free", 0)
-    if word == "free":
-        costs[:number] = [0] * len(costs[:number])
-    whole = 0 if word == "back" and day <= number else sum(costs)
-    return whole if top is None else min(whole, top)
 
 
 def written(first, rates, top, lost):

@@ -6,20 +6,40 @@ import unittest
 
 from tests.test_errors import NAMES
 
-FUNCTIONS = {"fines": {"fine": ["text"]}}
+FUNCTIONS = {
+    "fines": {"fine": ["text"]},
+    "later": {"later": ["case", "thing"], "shows_later": ["case", "thing", "value"]},
+    "ranks": {
+        "cost": ["case", "row", "calendar"], "best": ["case", "calendar"], "ranked": ["case"],
+        "shows_ranked": ["case", "value"],
+    },
+    "habits": {
+        "taken": ["case", "habit", "out", "visit"], "spent": ["case", "habit", "calendar"], "loss": ["case", "habit"],
+        "shows_loss": ["case", "habit", "value"], "alike": ["case", "habit", "other"],
+        "shows_alike": ["case", "habit", "other", "value"],
+    },
+}
 METHODS = {
     ("stairs", "Stairs"): {
         "__init__": ["self", "pieces"], "moved": ["self", "days"], "held": ["self", "days"],
         "nowhere_above": ["self", "other"], "first_less": ["self", "other"], "days_of": ["self", "number"],
     },
+    ("cases", "Case"): {
+        "__init__": ["self", "text"], "after": ["self", "kind"], "bill": ["self", "thing", "kind"],
+        "told": ["self", "number", "line"],
+    },
 }
 STATIC = {("stairs", "Stairs"): {"of": ["text"]}}
-PROPERTIES = {("stairs", "Stairs"): ["pieces", "text", "top", "bottom", "so_far", "from_here"]}
+PROPERTIES = {
+    ("stairs", "Stairs"): ["pieces", "text", "top", "bottom", "so_far", "from_here"],
+    ("cases", "Case"): ["text", "kinds", "things"],
+}
 OPERATORS = {
     ("stairs", "Stairs"): [
         "__getitem__", "__len__", "__repr__", "__eq__", "__add__", "__sub__", "__neg__", "__mul__", "__rmul__",
         "__or__", "__and__",
     ],
+    ("cases", "Case"): ["__len__", "__contains__", "__eq__"],
 }
 
 

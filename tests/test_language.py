@@ -97,6 +97,47 @@ class LanguageTest(unittest.TestCase):
                 double = name[2:-2] if name.startswith("__") and name.endswith("__") else None
                 self.assertTrue(double in DOUBLE if double else re.fullmatch("_|_?[A-Za-z][A-Za-z0-9_]*", name), name)
 
+    def test_names_stand_for_one_thing(self):
+        for file in FILES:
+            tree = ast.parse(file.read_text())
+            imports = [alias.name for node in tree.body if isinstance(node, ast.ImportFrom) for alias in node.names]
+            own = [node.name for node in tree.body if isinstance(node, (ast.FunctionDef, ast.ClassDef))]
+            own += [part.id for node in tree.body if isinstance(node, ast.Assign) for part in node.targets]
+            self.assertEqual(len(set(imports + own)), len(imports + own), file.name)
+            classes = {node.name for node in tree.body if isinstance(node, ast.ClassDef)}
+            inner = set()
+            for node in ast.walk(tree):
+                if isinstance(node, ast.arg):
+                    inner.add(node.arg)
+                elif isinstance(node, ast.Name) and not isinstance(node.ctx, ast.Load):
+                    inner.add(node.id)
+            self.assertEqual(inner & (set(imports) | classes), set(), file.name)
+            read = {node.id for node in ast.walk(tree) if isinstance(node, ast.Name)}
+            self.assertEqual(set(imports) - read, set(), file.name)
+
+    def test_nothing_goes_over_what_is_made_on_the_way(self):
+        kinds = (ast.GeneratorExp, ast.Yield, ast.YieldFrom, ast.Set, ast.SetComp, ast.NamedExpr)
+        self.assertEqual([(name, node.lineno) for name, node in self.each_node(kinds)], [])
+
+    def test_no_file_needs_itself(self):
+        needs = {}
+        for file in FILES:
+            found = [node.module for node in ast.parse(file.read_text()).body if isinstance(node, ast.ImportFrom)]
+            needs[file.stem] = [module.split(".")[1] for module in found if module.startswith("finestairs.")]
+        while needs:
+            free = [name for name in needs if not any(other in needs for other in needs[name])]
+            self.assertNotEqual(free, [], needs)
+            needs = {name: needs[name] for name in needs if name not in free}
+
+    def test_no_name_is_a_method_and_an_attribute(self):
+        methods, attributes = set(), set()
+        for _, node in self.each_node(ast.ClassDef):
+            methods |= {part.name for part in node.body if isinstance(part, ast.FunctionDef)}
+        for _, node in self.each_node(ast.Attribute):
+            if not isinstance(node.ctx, ast.Load):
+                attributes.add(node.attr)
+        self.assertEqual(methods & attributes, set())
+
     def test_decorators_and_handlers(self):
         for name, node in self.each_node(ast.FunctionDef):
             for sign in node.decorator_list:
