@@ -79,7 +79,7 @@ class Case:
 
 
 def _read_lines(lines):
-    """The lines as tuples: the word, the name and what is told of it."""
+    """The lines as tuples: the word, the name (that of kinds is "") and what is told of it."""
     told = []
     for number, line in enumerate(lines, start=1):
         row = _read(line)
@@ -108,8 +108,8 @@ def _lacks(behind, kinds):
 def _can_stand(row, ahead):
     """Whether a line can stand behind those that are ahead of it."""
     word, name, told = row
-    if len(ahead) == 0 or word == "kinds":
-        return len(ahead) == 0 and word == "kinds"
+    if len(ahead) == 0:
+        return word == "kinds"
     if PLACES[ahead[-1][0]] > PLACES[word] or name in _told_of(ahead, word):
         return False
     if word == "thing":
@@ -192,4 +192,4 @@ def _forgiven(asked, mercy):
     word, number = mercy
     if word == "top":
         return asked & level(number)
-    return level(0) if word == "none" else asked - level(number) | level(0)
+    return level(0) if word == "none" else (asked - level(number)) | level(0)

@@ -19,12 +19,12 @@ def rising():
 
 def days_above(stairs, number):
     """Marks of the days on which there is more than this number."""
-    return (stairs - level(number) | level(0)) & level(1)
+    return ((stairs - level(number)) | level(0)) & level(1)
 
 
 def days_from(day):
-    """Marks of this day and all behind it."""
-    return level(1) if day == 0 else Stairs(((0, 0, 0), (day, 1, 0)))
+    """Marks of this day, which is above 0, and all behind it."""
+    return Stairs(((0, 0, 0), (day, 1, 0)))
 
 
 def first_with(stairs, number, day):

@@ -96,7 +96,7 @@ class LaterTest(unittest.TestCase):
             (Stairs(((0, 2, 2), (5, 11, 0))), high, True), (Stairs(((0, 2, 2), (5, 12, -1), (6, 13, 0))), high, True),
             (Stairs(((0, 2, 2), (5, 12, -1), (6, 11, 0))), high, False), (low, low, False), (low, -high, False),
             (low, high | Stairs(((0, 5, 0),)), True), (low, high | Stairs(((0, 9, -1), (3, 0, 0))), False),
-            (high, low, False),
+            (high, low, False), (low, Stairs(((0, 0, 2), (5, 13, 0), (6, 12, 2))), False),
         ):
             with self.subTest(one=one, other=other):
                 self.assertIs(shows_later(case, "w", ("never", (one, other))), right)

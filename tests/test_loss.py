@@ -139,6 +139,8 @@ class LossTest(unittest.TestCase):
         self.assertEqual(loss(Case(text), "cheapest")[:2], ("most", 0))
         told = loss(Case(text), "dearest")
         self.assertEqual((told[0], told[2]), ("endless", 0))
+        for number, right in ((0, True), (1, False), (2, False), (3, False), (-1, False), (-2, False), (-3, False), (False, False)):
+            self.assertIs(shows_loss(Case(text), "dearest", ("endless", told[1], number)), right)
 
     def test_days_far_out(self):
         far, much = 10 ** 20, 10 ** 39
