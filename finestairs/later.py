@@ -14,7 +14,7 @@ def later(case, thing):
             return _endless(case, thing, kind, behind)
     most = max([row[2].top for row in savings], default=0)
     if most <= 0:
-        return ("never", least_floors(_bills(case, thing)))
+        return ("never", least_floors(bills_of(case, thing)))
     kind, behind, saved = [row for row in savings if row[2].top == most][0]
     day = first_with(saved, most, 0)
     least = case.bill(thing, kind)[day] - most
@@ -23,7 +23,7 @@ def later(case, thing):
 
 def shows_later(case, thing, value):
     """Whether any value is what later can tell."""
-    bills = _bills(case, thing)
+    bills = bills_of(case, thing)
     if is_told(value, "never", 2):
         return are_floors(case, bills, value[1])
     if is_told(value, "saves", 4):
@@ -33,13 +33,14 @@ def shows_later(case, thing, value):
     return False
 
 
-def _bills(case, thing):
+def bills_of(case, thing):
+    """What is asked for a thing, for each kind."""
     return tuple([case.bill(thing, kind) for kind in case.kinds])
 
 
 def _savings(case, thing):
     """For each kind, and each that can come behind it, the most that coming behind each day saves."""
-    bills = dict(zip(case.kinds, _bills(case, thing)))
+    bills = dict(zip(case.kinds, bills_of(case, thing)))
     # No bill falls without end, so there is a least one behind each day.
     return [
         (kind, behind, bills[kind] + (-bills[behind]).from_here.moved(1))

@@ -42,15 +42,13 @@ class Leads:
 
     def _fill(self, many):
         """All numbers with so many things being out; ends where there is no greatest one."""
-        for out in self._ways.outs(many):
-            for kind in self._case.kinds:
-                if self._ways.days(out, kind) is not None:
-                    for left in some_of(self._case.things, many):
-                        key = (out, left, kind)
-                        self._from[key] = self._number(key)
-                        if self._ways.is_free(out, kind) and self._from[key].top is None:
-                            self._rising = key
-                            return
+        for out, kind in self._ways.places(many):
+            for left in some_of(self._case.things, many):
+                key = (out, left, kind)
+                self._from[key] = self._number(key)
+                if self._ways.is_free(out, kind) and self._from[key].top is None:
+                    self._rising = key
+                    return
 
     def _number(self, key):
         """The numbers from a visit on."""

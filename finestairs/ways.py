@@ -24,13 +24,14 @@ class Ways:
             self._layers.append(self._leave(self._layers[-1]))
         self._leave(self._layers[-1])
 
-    def outs(self, many):
-        """All that can be out, so many things each."""
-        return self._layers[len(self._case) - many]
+    def places(self, many):
+        """All (out, kind) that can be, so many things being out."""
+        layer = self._layers[len(self._case) - many]
+        return [(out, kind) for out in layer for kind in self._case.kinds if (out, kind) in self._days]
 
     def days(self, out, kind):
-        """Marks of the days on which these things can be out on visits of this kind; None if there are none."""
-        return self._days.get((out, kind))
+        """Marks of the days on which these things can be out on visits of this kind."""
+        return self._days[out, kind]
 
     def takes(self, out, kind):
         """The things that are taken of these on visits of this kind, each with marks of the days."""

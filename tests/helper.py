@@ -8,6 +8,9 @@ from finestairs.cases import Case
 from finestairs.errors import BadDay, FineError
 from finestairs.stairs import Stairs
 
+# Other names of kinds and things, some of them words that mean something else, too.
+RENAMED = {"p": "zeal", "q": "row", "r": "a", "s": "dearest", "w": "row", "x": "q", "y": "b", "z": "steepest"}
+
 
 def any_values():
     """Values of any kind, made anew, so that a test can see whether one was changed."""
@@ -281,6 +284,24 @@ class DayByDay:
                     )
         return max(known["from", self.things, self.things, 0, kind] for kind in self.kinds)
 
+    def most_led(self, habit, row, days):
+        """The greatest sum of the leads of a calendar of some days, day by day from the last one on."""
+        known = {}
+        for out, day in itertools.product(self.outs(), reversed(range(days))):
+            for kind in self.kinds:
+                rest = tuple(thing for thing in out if thing != self.takes(habit, out, day, kind))
+                then = [known.get((rest, day, kind), 0)]
+                then += [known[rest, day + 1, other, "from"] for other in self.after[kind] if rest and day + 1 < days]
+                known[out, day, kind] = max(then) + self.lead(habit, row, out, day, kind)
+                known[out, day, kind, "from"] = max(
+                    known[out, day, kind], known.get((out, day + 1, kind, "from"), -10 ** 9),
+                )
+        return max(known[self.things, 0, kind, "from"] for kind in self.kinds)
+
+    def lead(self, habit, row, out, day, kind):
+        """What is asked for what the habit takes, less what is asked for the thing in this place of the row."""
+        return self.number(self.takes(habit, out, day, kind), kind, day) - self.number(row[len(row) - len(out)], kind, day)
+
 
 def moved(calendar, number, days):
     """The calendar with this visit, and all behind it, so many days later."""
@@ -335,6 +356,20 @@ def made_case(chance, kinds, things):
     return "\n".join(lines)
 
 
+def changed_lines(chance, text):
+    """The text with other fines or mercies in some of its lines, small ones by chance."""
+    lines = []
+    for line in text.split("\n"):
+        words = line.split(" ")
+        if words[0] == "thing" and chance.random() < 0.5:
+            fine = made_fine(chance, False)
+            line = " ".join([*words[:2], chance.choice(("due", "late")), *words[3:4], *([fine] if fine else [])])
+        elif words[0] == "mercy" and chance.random() < 0.5:
+            line = " ".join([*words[:2], chance.choice(("top", "less")), str(chance.randint(0, 8))])
+        lines.append(line)
+    return "\n".join(lines)
+
+
 def made_cases(many, seed):
     """Texts of small cases by chance, with one to four kinds and things, always the same ones."""
     chance = random.Random(seed)
@@ -365,3 +400,61 @@ def habits_of(case):
     names = list(case.things)
     rows = {" ".join(["row", *row]) for row in (names, names[::-1], names[1:] + names[:1])}
     return ["dearest", "cheapest", "steepest 1", "steepest 4", *sorted(rows)]
+
+
+def later_due(text, days):
+    """The text with each thing, all of them due, so many days later due."""
+    lines = []
+    for line in text.split("\n"):
+        words = line.split(" ")
+        if words[0] == "thing":
+            words[2:4] = ["due", str(int(words[3]) + days)]
+        lines.append(" ".join(words))
+    return "\n".join(lines)
+
+
+def left_out(text):
+    """All texts of cases that come if a kind is left out of a line after."""
+    found = []
+    lines = text.split("\n")
+    for at, line in enumerate(lines):
+        words = line.split(" ")
+        if words[0] == "after":
+            for number in range(2, len(words)):
+                rest = words[:number] + words[number + 1:]
+                other = lines[:at] + ([" ".join(rest)] if len(rest) > 2 else []) + lines[at + 1:]
+                try:
+                    found.append(Case("\n".join(other)).text)
+                except ValueError:
+                    pass
+    return found
+
+
+def renamed(text):
+    """The text with other names."""
+    lines = []
+    for line in text.split("\n"):
+        words = line.split(" ")
+        names = 2 if words[0] in ("mercy", "thing") else len(words)
+        lines.append(" ".join([words[0], *[RENAMED[word] for word in words[1:names]], *words[names:]]))
+    return "\n".join(lines)
+
+
+def priced(text, times):
+    """The text with all prices, and all that mercies tell, so many times as much."""
+    lines = []
+    for line in text.split("\n"):
+        words = line.split(" ")
+        if words[0] == "mercy" and len(words) == 4:
+            words[3] = str(int(words[3]) * times)
+        if words[0] == "thing" and len(words) > 4:
+            parts = []
+            for part in " ".join(words[4:]).split(", "):
+                row = part.split(" ")
+                at = {"free": None, "back": None, "top": 1, "lost": 2}.get(row[0], 0)
+                if at is not None:
+                    row[at] = str(int(row[at]) * times)
+                parts.append(" ".join(row))
+            words[4:] = [", ".join(parts)]
+        lines.append(" ".join(words))
+    return "\n".join(lines)

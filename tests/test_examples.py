@@ -57,6 +57,18 @@ HABITS = r"""
 [('most', 0), ('most', 12), 'apart']
 """
 
+HEIGHTS = """
+>>> from finestairs.heights import heights, shows_heights
+>>> [heights(steps, 'row c b a', ('a', 'b', 'c'))[0], heights(case, 'row a b', ('b', 'a'))[0]]
+[0, 12]
+"""
+
+MENDING = """
+>>> from finestairs.mending import mended, shows_mended
+>>> [mended(case, 'b')[0], mended(calm, 'a')[0]]
+[8, 0]
+"""
+
 
 class ExamplesTest(unittest.TestCase):
     def held(self, text):
@@ -68,7 +80,7 @@ class ExamplesTest(unittest.TestCase):
 
     def test_cases_and_all_calendars(self):
         # The later ones of these examples speak of the cases of the ones ahead.
-        self.held(CASES + LATER + RANKS + HABITS)
+        self.held(CASES + LATER + RANKS + HABITS + HEIGHTS + MENDING)
 
     def test_stairs(self):
         self.held(STAIRS)

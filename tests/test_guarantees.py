@@ -7,9 +7,7 @@ from finestairs.cases import Case
 from finestairs.habits import alike, loss, shows_alike, shows_loss, spent, taken
 from finestairs.later import later, shows_later
 from finestairs.ranks import best, cost, ranked, shows_ranked
-from tests.helper import DayByDay, edge_cases, habits_of, made_cases, same
-
-RENAMED = {"p": "zeal", "q": "row", "r": "a", "s": "dearest", "w": "row", "x": "q", "y": "b", "z": "steepest"}
+from tests.helper import RENAMED, DayByDay, edge_cases, habits_of, later_due, left_out, made_cases, renamed, same
 
 
 def texts(many, seed):
@@ -23,44 +21,6 @@ def words_and_numbers(case):
     for habit in habits_of(case):
         told["loss", habit] = loss(case, habit)[:2]
     return {key: row if row[0] in ("saves", "most") else row[:1] for key, row in told.items()}
-
-
-def later_due(text, days):
-    """The text with each thing, all of them due, so many days later due."""
-    lines = []
-    for line in text.split("\n"):
-        words = line.split(" ")
-        if words[0] == "thing":
-            words[2:4] = ["due", str(int(words[3]) + days)]
-        lines.append(" ".join(words))
-    return "\n".join(lines)
-
-
-def left_out(text):
-    """All texts of cases that come if a kind is left out of a line after."""
-    found = []
-    lines = text.split("\n")
-    for at, line in enumerate(lines):
-        words = line.split(" ")
-        if words[0] == "after":
-            for number in range(2, len(words)):
-                rest = words[:number] + words[number + 1:]
-                other = lines[:at] + ([" ".join(rest)] if len(rest) > 2 else []) + lines[at + 1:]
-                try:
-                    found.append(Case("\n".join(other)).text)
-                except ValueError:
-                    pass
-    return found
-
-
-def renamed(text):
-    """The text with other names."""
-    lines = []
-    for line in text.split("\n"):
-        words = line.split(" ")
-        names = 2 if words[0] in ("mercy", "thing") else len(words)
-        lines.append(" ".join([words[0], *[RENAMED[word] for word in words[1:names]], *words[names:]]))
-    return "\n".join(lines)
 
 
 def no_more(ahead, behind):

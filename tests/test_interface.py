@@ -18,6 +18,11 @@ FUNCTIONS = {
         "shows_loss": ["case", "habit", "value"], "alike": ["case", "habit", "other"],
         "shows_alike": ["case", "habit", "other", "value"],
     },
+    "heights": {"heights": ["case", "habit", "row"], "shows_heights": ["case", "habit", "row", "value"]},
+    "comparing": {
+        "compared": ["case", "other"], "shows_compared": ["case", "other", "value"], "first_apart": ["case", "other"],
+    },
+    "mending": {"mended": ["case", "thing"], "shows_mended": ["case", "thing", "value"]},
 }
 METHODS = {
     ("stairs", "Stairs"): {
