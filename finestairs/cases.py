@@ -78,6 +78,11 @@ class Case:
             raise NoKind(kind)
 
 
+def same_names(case, other):
+    """Whether two cases have the same kinds and the same things, in the same sequence."""
+    return case.kinds == other.kinds and case.things == other.things
+
+
 def _read_lines(lines):
     """The lines as tuples: the word, the name (that of kinds is "") and what is told of it."""
     told = []

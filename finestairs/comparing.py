@@ -1,7 +1,7 @@
 """Cases beside one another: whether one asks more, less or the same, and from which day on they differ."""
 
 from finestairs.calendars import is_told, is_visit
-from finestairs.cases import Case
+from finestairs.cases import Case, same_names
 from finestairs.errors import OtherCase
 from finestairs.shapes import first_unlike
 
@@ -45,7 +45,7 @@ def first_apart(case, other):
 
 
 def _check(case, other):
-    if not isinstance(other, Case) or other.kinds != case.kinds or other.things != case.things:
+    if not isinstance(other, Case) or not same_names(case, other):
         raise OtherCase(other)
 
 

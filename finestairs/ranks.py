@@ -35,6 +35,11 @@ def ranked(case):
     return ("row", row, tuple([least_floors(_apart(case, one, other)) for one, other in zip(row, row[1:])]))
 
 
+def can_go_ahead(case, one, other):
+    """Whether one thing can go ahead of another one."""
+    return first_fall(case, _apart(case, one, other)) is None
+
+
 def shows_ranked(case, value):
     """Whether any value is what ranked can tell."""
     if is_told(value, "row", 3):

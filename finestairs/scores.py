@@ -6,12 +6,16 @@ from finestairs.errors import BadHabit
 from finestairs.shapes import days_above, level
 
 
+def is_habit(case, value):
+    """Whether any value is a habit."""
+    return isinstance(value, str) and _are_words(case, value.split(" "))
+
+
 def words_of(case, habit):
     """The words of a habit; BadHabit for any value that is none."""
-    words = habit.split(" ") if isinstance(habit, str) else []
-    if not _is_habit(case, words):
+    if not is_habit(case, habit):
         raise BadHabit(habit)
-    return words
+    return habit.split(" ")
 
 
 def scores_of(case, words, out, kind):
@@ -39,7 +43,7 @@ def taken_when(scores):
     return rows
 
 
-def _is_habit(case, words):
+def _are_words(case, words):
     """Whether the words are those of a habit."""
     if words in (["dearest"], ["cheapest"]):
         return True

@@ -69,6 +69,36 @@ MENDING = """
 [8, 0]
 """
 
+CHOOSING = """
+>>> from finestairs.choosing import cheapest
+>>> cheapest(case, ((4, 'mercy mercy top 10', 1), (6, 'thing b due 3 5 from 1, lost 5 20', 2)), (('later', 'b', 10),))
+('pick', 1, ((4, 'mercy mercy top 10', 1),), (((), 0),))
+"""
+
+SEEING = """
+>>> from finestairs.seeing import asked_next, days_seen
+>>> [days_seen(case, (('b', 'plain', 12),)), days_seen(case, (('a', 'plain', 6), ('b', 'plain', 15))), days_seen(case, (('b', 'plain', 15), ('a', 'plain', 6)))]
+[('days', (((8, None),),)), ('days', (((3, 3),), ((6, 6),))), ('never', 1)]
+>>> [asked_next(case, (('b', 'plain', 15),), 'b', 'plain'), asked_next(case, (('b', 'plain', 15),), 'a', 'mercy')]
+[(12, 20), (4, 4)]
+"""
+
+COUNTERS = """
+>>> from finestairs.counters import Counter, read_counter
+>>> counter = Counter(case)
+>>> [counter.come(5, 'plain'), counter.bring('a'), counter.paid, counter.out, counter.visit]
+[None, None, 10, ('b',), (5, 'plain')]
+>>> [counter.come(7, 'mercy'), counter.bring_by('dearest'), counter.paid, counter.journal, read_counter(case, counter.journal) == counter]
+[None, 'b', 14, ('come 5 plain', 'bring a', 'come 7 mercy', 'bring b'), True]
+"""
+
+DESK = """
+>>> from finestairs.desk import Desk
+>>> desk = Desk(case.text)
+>>> [desk.say(line) for line in ('later b', 'loss row a b', 'come 5 plain', 'by dearest', 'out', 'change 4 mercy mercy none', 'come 9 mercy', 'bring b', 'paid', 'undo', 'visit')]
+['16', '12', 'done', 'a', 'b', 'done', 'done', 'done', '10', 'done', '9 mercy']
+"""
+
 
 class ExamplesTest(unittest.TestCase):
     def held(self, text):
@@ -78,9 +108,9 @@ class ExamplesTest(unittest.TestCase):
         doctest.DocTestRunner().run(test, out=told.append)
         self.assertEqual("".join(told), "")
 
-    def test_cases_and_all_calendars(self):
+    def test_from_cases_on(self):
         # The later ones of these examples speak of the cases of the ones ahead.
-        self.held(CASES + LATER + RANKS + HABITS + HEIGHTS + MENDING)
+        self.held(CASES + LATER + RANKS + HABITS + HEIGHTS + MENDING + CHOOSING + SEEING + COUNTERS + DESK)
 
     def test_stairs(self):
         self.held(STAIRS)

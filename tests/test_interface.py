@@ -23,6 +23,9 @@ FUNCTIONS = {
         "compared": ["case", "other"], "shows_compared": ["case", "other", "value"], "first_apart": ["case", "other"],
     },
     "mending": {"mended": ["case", "thing"], "shows_mended": ["case", "thing", "value"]},
+    "choosing": {"cheapest": ["case", "offers", "wishes"]},
+    "seeing": {"days_seen": ["case", "seen"], "asked_next": ["case", "seen", "thing", "kind"]},
+    "counters": {"read_counter": ["case", "lines"]},
 }
 METHODS = {
     ("stairs", "Stairs"): {
@@ -33,11 +36,19 @@ METHODS = {
         "__init__": ["self", "text"], "after": ["self", "kind"], "bill": ["self", "thing", "kind"],
         "told": ["self", "number", "line"],
     },
+    ("counters", "Counter"): {
+        "__init__": ["self", "case"], "come": ["self", "day", "kind"], "bring": ["self", "thing"], "bring_by": ["self", "habit"],
+        "change": ["self", "number", "line"], "undo": ["self"], "redo": ["self"], "trial": ["self"], "keep": ["self"],
+        "tried": ["self", "look", "keep"], "copy": ["self"],
+    },
+    ("desk", "Desk"): {"__init__": ["self", "text"], "say": ["self", "line"]},
 }
 STATIC = {("stairs", "Stairs"): {"of": ["text"]}}
 PROPERTIES = {
     ("stairs", "Stairs"): ["pieces", "text", "top", "bottom", "so_far", "from_here"],
     ("cases", "Case"): ["text", "kinds", "things"],
+    ("counters", "Counter"): ["case", "first", "visit", "out", "paid", "done", "journal"],
+    ("desk", "Desk"): ["counter"],
 }
 OPERATORS = {
     ("stairs", "Stairs"): [
@@ -45,6 +56,7 @@ OPERATORS = {
         "__or__", "__and__",
     ],
     ("cases", "Case"): ["__len__", "__contains__", "__eq__"],
+    ("counters", "Counter"): ["__len__", "__contains__", "__eq__"],
 }
 
 
@@ -75,6 +87,10 @@ class InterfaceTest(unittest.TestCase):
             self.assertEqual(own.__module__, "finestairs." + file)
             for method, told in methods.items():
                 self.assertEqual(parameters(vars(own)[method]), told)
+
+    def test_what_stands_behind_a_star_is_given_by_name(self):
+        keep = inspect.signature(vars(found("counters", "Counter"))["tried"]).parameters["keep"]
+        self.assertEqual((keep.kind, keep.default), (keep.KEYWORD_ONLY, False))
 
     def test_static_methods_stand_in_the_class_itself(self):
         for (file, name), methods in STATIC.items():
