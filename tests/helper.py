@@ -5,6 +5,8 @@ import itertools
 import random
 
 from finestairs.cases import Case
+from finestairs.counters import Counter
+from finestairs.desk import Desk
 from finestairs.errors import BadDay, FineError
 from finestairs.stairs import Stairs
 
@@ -26,6 +28,7 @@ def any_values():
         Stairs(((0, 1, 2),)), (Stairs(((0, 1, 2),)),), [Stairs(((0, 1, 2),))],
         FineError(3), BadDay(("a", [])), deep,
         Case("kinds plain\nthing a due 0 2 from 1"), (Case("kinds plain\nthing a due 0"),), "plain", "kinds plain",
+        Counter(Case("kinds plain\nthing a due 0")), [Desk("kinds plain\nthing a due 0")],
         ("a",), ("a", "b"), ("b", "a"), ["a", "b"], (0, "plain"), [0, "plain"], (True, "plain"), ("plain", 0),
         ((0, "plain"),), ((0, "plain"), (1, "plain")), ([0, "plain"], (1, "plain")), ((1, "plain"), (0, "plain")),
         "dearest", "row a b", "steepest 3", "steepest 0", ("never", ()), ("row", ("a", "b"), ()), ("alike",), ("most", 0, ()),
@@ -42,6 +45,8 @@ def same(value, other):
         return same(list(value.items()), list(other.items()))
     if isinstance(value, FineError):
         return same(value.value, other.value)
+    if isinstance(value, Desk):
+        return value.counter == other.counter
     return value == other
 
 

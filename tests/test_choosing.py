@@ -15,7 +15,7 @@ TEXT = (
     "kinds plain mercy\nafter plain plain mercy\nafter mercy plain mercy\nmercy mercy top 4\n"
     "thing a due 0 2 from 1, top 20\nthing b due 3 5 from 1, lost 5 12"
 )
-DAYS = 14
+DAYS = 30
 WISHES = (("later", "b", 10),)
 
 

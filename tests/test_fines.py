@@ -7,7 +7,7 @@ import unittest
 from finestairs.errors import BadFine
 from finestairs.fines import fine
 from finestairs.stairs import Stairs
-from tests.helper import any_values, asked, in_one_way
+from tests.helper import any_values, asked, in_one_way, same
 
 DAYS = 60
 
@@ -79,8 +79,7 @@ class WrongTest(unittest.TestCase):
         with self.subTest(value=value), self.assertRaises(BadFine) as caught:
             fine(value)
         self.assertIs(caught.exception.value, value)
-        if not isinstance(value, ValueError):
-            self.assertEqual(value, ahead)
+        self.assertTrue(same(value, ahead))
 
     def test_any_value(self):
         for value in any_values():

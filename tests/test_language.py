@@ -146,6 +146,24 @@ class LanguageTest(unittest.TestCase):
         for name, node in self.each_node(ast.ExceptHandler):
             self.assertIsNotNone(node.type, name)
 
+    def test_rows_of_exit_are_plain(self):
+        for name, node in self.each_node(ast.FunctionDef):
+            if node.name == "__exit__":
+                for row in ast.walk(ast.Module(node.body, [])):
+                    self.assertNotIsInstance(row, (ast.Call, ast.BinOp, ast.Return, ast.Raise, ast.Subscript, ast.For, ast.While), name)
+                    if isinstance(row, ast.Compare):
+                        self.assertTrue(all(isinstance(sign, (ast.Is, ast.IsNot)) for sign in row.ops))
+
+    def test_what_is_not_needed_is_not_read(self):
+        self.assertEqual([name for name, node in self.each_node(ast.Name) if node.id == "_" and isinstance(node.ctx, ast.Load)], [])
+
+    def test_is_stands_beside_plain_values_alone(self):
+        for name, node in self.each_node(ast.Compare):
+            for sign, other in zip(node.ops, node.comparators):
+                if isinstance(sign, (ast.Is, ast.IsNot)):
+                    self.assertIsInstance(other, ast.Constant, name)
+                    self.assertIn(other.value, (None, True, False))
+
 
 if __name__ == "__main__":
     unittest.main()

@@ -5,7 +5,7 @@ import unittest
 
 from finestairs.errors import BadDay, BadNumber, BadPieces, BadText, Endless
 from finestairs.stairs import Stairs
-from tests.helper import any_values, handmade, made
+from tests.helper import any_values, handmade, made, same
 
 ONE = Stairs(((0, 0, 0), (3, 2, 2)))
 
@@ -21,9 +21,7 @@ class WrongTest(unittest.TestCase):
             deed(value)
         self.assertIs(caught.exception.__class__, error)
         self.assertIs(caught.exception.value, value)
-        # Errors equal nothing but themselves, also when they are copied.
-        if not isinstance(value, ValueError):
-            self.assertEqual(value, ahead)
+        self.assertTrue(same(value, ahead))
 
     def test_pieces(self):
         right = [((0, 0, 0),), ((0, 5, 1), (4, 0, 0))]
